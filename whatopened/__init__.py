@@ -1,0 +1,1 @@
+"""Whatopened: what links that opened tell of a house nobody shows."""
