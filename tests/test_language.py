@@ -5,6 +5,8 @@ import builtins
 import unittest
 from pathlib import Path
 
+from operators import Package
+
 PACKAGE = Path(__file__).resolve().parent.parent / "whatopened"
 ALLOWED = set(
     "len range enumerate zip min max sum abs sorted reversed int str bool bytes list tuple dict set isinstance ord repr"
@@ -143,6 +145,87 @@ class TheLanguage(unittest.TestCase):
                 if isinstance(node, ast.Attribute) and isinstance(node.ctx, ast.Store):
                     attributes.add(node.attr)
         self.assertEqual(methods & attributes, set())
+
+    def test_operators_change_nothing_and_call_nothing_that_is_passed_or_kept(self):
+        package = Package({name: text for name, text, tree in sources()})
+        self.assertEqual(package.wrong(), [])
+        names = {function.name for function in package.come_to()}
+        self.assertLessEqual({"__add__", "__contains__", "__eq__", "__len__", "__init__", "as_told"}, names)
+
+
+BOX = """
+class Bad(ValueError):
+    def __init__(self, index):
+        self.index = index
+
+def place(row, thing):
+    {place}
+
+class Made:
+    def __init__(self, rows):
+        self.rows = rows
+        {made}
+
+    def told(self):
+        {told}
+
+class Box:
+    def __init__(self, rows):
+        self.rows = rows
+
+    def __contains__(self, x):
+        {contains}
+
+    def __len__(self):
+        return len(self.rows)
+
+    def free(self, step):
+        self.rows.append(step(self.rows.index(1)))
+"""
+
+
+def wrong_in_box(**rows):
+    """What is found wrong where these rows stand in BOX."""
+    text = BOX
+    for name in ("place", "made", "told", "contains"):
+        text = text.replace("{" + name + "}", rows.get(name, "pass"))
+    return Package({"box.py": text}).wrong()
+
+
+class HowOperatorsAreLookedThrough(unittest.TestCase):
+    """The test of the operators finds what it looks for, wherever an operator comes to it."""
+
+    def found(self, word, **rows):
+        wrong = wrong_in_box(**rows)
+        self.assertEqual(len(wrong), 1, rows)
+        self.assertIn(word, wrong[0])
+
+    def test_nothing_is_wrong_with_what_is_allowed(self):
+        self.assertEqual(wrong_in_box(), [])
+        self.assertEqual(wrong_in_box(contains="return place(self.rows, x)", place="rows = [1]; rows.append(thing)"), [])
+        self.assertEqual(wrong_in_box(contains="return Made([x]).told()", told="return list(self.rows)"), [])
+
+    def test_what_no_operator_comes_to_is_free(self):
+        self.assertEqual(wrong_in_box(place="return row.index(thing)", told="self.rows.append(1)"), [])
+
+    def test_a_call_of_a_name_that_objects_keep(self):
+        self.found(".index", contains="return self.rows.index(x) == 0")
+        self.found(".index", contains="return place(self.rows, x)", place="return row.index(thing) < 1")
+        self.found(".index", contains="return 1 in Made(x).rows", made="self.at = rows.index(1)")
+        self.found(".index", contains="return Made(x).told() == 1", told="return self.rows.index(1)")
+        self.found(".index", contains="return len(sorted([x], key=place)) == 1", place="return row.index(1)")
+
+    def test_a_call_of_what_is_passed(self):
+        self.found("calls x", contains="return x(1)")
+        self.found("calls thing", contains="return place(1, x)", place="return thing(row)")
+        self.found("no name", contains="return self.rows[0](x)")
+
+    def test_a_change(self):
+        self.found(".rows", contains="self.rows = [x]")
+        self.found(".append", contains="self.rows.append(x)")
+        self.found("item", contains="place(self.rows, x)", place="row[0] = thing")
+        self.found(".sort", contains="rows = [x]; rows.sort()")
+        self.found(".rows", contains="return Made(x).told()", told="self.rows = []")
 
 
 if __name__ == "__main__":

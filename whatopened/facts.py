@@ -29,9 +29,11 @@ def wrong_fact(house, facts):
 def as_told(house, fact):
     """The fact as a tuple, the nodes of a line in the order of the house."""
     word, one, other = fact
-    if word == "line" and house.nodes.index(other) < house.nodes.index(one):
-        return (word, other, one)
-    return (word, one, other)
+    if word != "line":
+        return (word, one, other)
+    # The operators of Facts come here: what they call has no name that an object of the package keeps.
+    first, second = [node for node in house.nodes if node in (one, other)]
+    return (word, first, second)
 
 
 def each_once(house, facts):
