@@ -56,6 +56,15 @@ def has_ring(over, node):
     return True
 
 
+def way_up(over, node):
+    """The folders above a node, followed step by step in a dict."""
+    folders = []
+    while over[node] is not None:
+        node = over[node]
+        folders.append(node)
+    return folders
+
+
 def all_overs(house):
     """All dicts from nodes to the folders directly over them, None at the very top, without rings."""
     folders = [None, *house.folders]
@@ -71,6 +80,13 @@ def without_tops(over):
 def all_trees(house):
     """All trees of a house."""
     return [Tree(house, without_tops(over)) for over in all_overs(house)]
+
+
+def holds_in(over, fact):
+    """Whether a fact holds in the tree of a dict."""
+    word, one, other = fact
+    down, up = other in way_up(over, one), one in way_up(over, other)
+    return {"below": down, "not": not down, "line": down or up}[word]
 
 
 def all_facts(house):

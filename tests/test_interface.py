@@ -1,10 +1,11 @@
 """The interface: where each name is defined, its parameters, and its methods."""
 
+import doctest
 import inspect
 import unittest
 from importlib import import_module
 
-from whatopened.facts import Facts, against
+from whatopened.facts import Facts
 from whatopened.houses import House
 from whatopened.trees import Tree
 
@@ -20,7 +21,27 @@ METHODS = {
         "__contains__": None, "__iter__": None, "__eq__": None,
     },
 }
-PLACES = {House: "whatopened.houses", Tree: "whatopened.trees", Facts: "whatopened.facts", against: "whatopened.facts"}
+PLACES = {House: "whatopened.houses", Tree: "whatopened.trees", Facts: "whatopened.facts"}
+FUNCTIONS = {
+    "whatopened.facts": {"against": ("house", "fact")},
+    "whatopened.fitting": {"tree_for": ("facts",), "topless": ("facts",), "is_topless": ("facts", "nodes")},
+    "whatopened.asking": {
+        "verdict": ("facts", "fact"), "paper": ("facts", "fact"), "one_of": ("facts", "pairs"),
+        "one_paper": ("facts", "pairs"), "table": ("facts",), "alone": ("facts",), "follows": ("facts", "more"),
+        "parted": ("facts", "more"), "alike": ("one", "other"),
+    },
+    "whatopened.counts": {"how_many": ("facts",), "tree_number": ("facts", "k"), "number_of": ("facts", "tree")},
+    "whatopened.quarrels": {"needless": ("facts",), "quarrels": ("facts",), "fewest_back": ("facts",)},
+}
+EXAMPLE = """
+>>> from whatopened.houses import House
+>>> from whatopened.facts import Facts
+>>> from whatopened.asking import one_of, verdict
+>>> house = House(["a", "b", "c"], ["t", "u", "v", "w"])
+>>> facts = Facts(house, [("below", "t", "c"), ("below", "w", "c"), ("below", "w", "b"), ("below", "v", "b"), ("below", "v", "a"), ("below", "u", "a"), ("not", "u", "c")])
+>>> [verdict(facts, ("below", "t", "a")), verdict(facts, ("below", "t", "b")), one_of(facts, [("t", "a"), ("t", "b")])]
+['open', 'open', 'sure']
+"""
 
 
 class TheInterface(unittest.TestCase):
@@ -28,6 +49,21 @@ class TheInterface(unittest.TestCase):
         for thing, place in PLACES.items():
             self.assertEqual(thing.__module__, place)
             self.assertIs(getattr(import_module(place), thing.__name__), thing)
+
+    def test_each_function_is_defined_in_its_own_file(self):
+        for place, functions in FUNCTIONS.items():
+            for name, parameters in functions.items():
+                function = getattr(import_module(place), name)
+                self.assertTrue(inspect.isfunction(function), name)
+                self.assertEqual(function.__module__, place)
+                self.assertEqual(tuple(inspect.signature(function).parameters), parameters)
+                for parameter in inspect.signature(function).parameters.values():
+                    self.assertIs(parameter.default, parameter.empty)
+
+    def test_the_example_at_its_end(self):
+        test = doctest.DocTestParser().get_doctest(EXAMPLE, {}, "the interface", None, 0)
+        found = doctest.DocTestRunner().run(test)
+        self.assertEqual((found.attempted, found.failed), (6, 0))
 
     def test_each_method_stands_in_the_class_itself(self):
         for kind, methods in METHODS.items():
@@ -40,7 +76,6 @@ class TheInterface(unittest.TestCase):
     def test_parameters_with_a_default(self):
         self.assertEqual(inspect.signature(House).parameters["things"].default, ())
         self.assertEqual(inspect.signature(Facts).parameters["facts"].default, ())
-        self.assertEqual(tuple(inspect.signature(against).parameters), ("house", "fact"))
 
     def test_attributes_are_set_when_an_object_is_created(self):
         house = House(["a"], ["t"])

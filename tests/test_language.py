@@ -17,6 +17,7 @@ BARRED_WORDS = set(
     " NamedTuple TypedDict TYPE_CHECKING abstractmethod".split()
 )
 BARRED_PARTS = ("dataclass", "overload", "contextmanager")
+WALKS = ("list", "tuple", "dict", "sorted", "sum", "any", "all", "enumerate", "zip", "min", "max")
 PLAIN_CALLS = ("sum", "min", "max", "sorted", "any", "all")
 
 
@@ -34,6 +35,22 @@ def words_of(text):
 
 def functions_of(tree):
     return [node for node in ast.walk(tree) if isinstance(node, ast.FunctionDef)]
+
+
+def is_lazy(call):
+    """Whether a call gives what must be iterated on the spot: L23."""
+    if isinstance(call.func, ast.Name):
+        return call.func.id in ("zip", "enumerate", "reversed", "range")
+    return isinstance(call.func, ast.Attribute) and call.func.attr in ("items", "keys", "values")
+
+
+def iterated_at_once(tree):
+    """What stands after the in of a loop or a comprehension, or first in a call that walks through it."""
+    found = {node.iter for node in ast.walk(tree) if isinstance(node, (ast.For, ast.comprehension))}
+    for node in ast.walk(tree):
+        if isinstance(node, ast.Call) and isinstance(node.func, ast.Name) and node.func.id in WALKS:
+            found |= set(node.args[:1])
+    return found
 
 
 class TheLanguage(unittest.TestCase):
@@ -145,6 +162,23 @@ class TheLanguage(unittest.TestCase):
                 if isinstance(node, ast.Attribute) and isinstance(node.ctx, ast.Store):
                     attributes.add(node.attr)
         self.assertEqual(methods & attributes, set())
+
+    def test_what_is_iterated_at_once_is_not_stored(self):
+        for name, text, tree in sources():
+            allowed = iterated_at_once(tree)
+            for node in ast.walk(tree):
+                if isinstance(node, ast.Call) and is_lazy(node):
+                    self.assertIn(node, allowed, f"{name}:{node.lineno}")
+
+    def test_no_variable_has_the_name_of_a_class_or_an_import_of_its_file(self):
+        for name, text, tree in sources():
+            taken = {node.name for node in tree.body if isinstance(node, ast.ClassDef)}
+            taken |= {alias.name for node in tree.body if isinstance(node, ast.ImportFrom) for alias in node.names}
+            for node in ast.walk(tree):
+                if isinstance(node, ast.arg):
+                    self.assertNotIn(node.arg, taken, f"{name}:{node.lineno}")
+                if isinstance(node, ast.Name) and isinstance(node.ctx, ast.Store):
+                    self.assertNotIn(node.id, taken, f"{name}:{node.lineno}")
 
     def test_operators_change_nothing_and_call_nothing_that_is_passed_or_kept(self):
         package = Package({name: text for name, text, tree in sources()})

@@ -2,7 +2,8 @@
 
 import unittest
 
-from anything import all_facts, all_overs, all_trees, any_keys, any_objects, no_facts, without_tops
+from anything import all_facts, all_overs, all_trees, any_keys, any_objects, no_facts, way_up, without_tops
+from looking import Looking
 from whatopened.errors import BadFact, NoFolder, NoNode, Ringed, UnlikeHouses
 from whatopened.facts import Facts
 from whatopened.houses import House
@@ -13,25 +14,7 @@ HOUSE = House(["c", "a", "b", "d"], ["t", "u", "v"])
 OVER = {"t": "c", "c": "b", "b": "a", "u": "b", "v": "d"}
 
 
-def way_up(over, node):
-    """The folders above a node, followed step by step in a dict."""
-    folders = []
-    while over[node] is not None:
-        node = over[node]
-        folders.append(node)
-    return folders
-
-
-class Trees(unittest.TestCase):
-    def raised(self, kind, attribute, thing, call, *parts):
-        """The call raises just this error, which keeps this very object."""
-        with self.assertRaises(kind) as caught:
-            call(*parts)
-        self.assertIs(type(caught.exception), kind)
-        kept = getattr(caught.exception, attribute)
-        self.assertIs(type(kept), type(thing))
-        self.assertTrue(kept is thing or kept == thing)
-
+class Trees(Looking):
     def ringed(self, over, call, *parts):
         """The call raises Ringed with folders that lie in each other by the dict."""
         with self.assertRaises(Ringed) as caught:

@@ -1,4 +1,4 @@
-"""Kinds of values that the document names: lists, integers, names."""
+"""What the document names for all files: lists, integers, names, the order of choices."""
 
 LETTERS = "abcdefghijklmnopqrstuvwxyz"
 LONGEST = 8
@@ -19,3 +19,11 @@ def is_name(thing):
     if not isinstance(thing, str) or not 1 <= len(thing) <= LONGEST:
         return False
     return all([letter in LETTERS for letter in thing])
+
+
+def choices(many, length):
+    """All ascending tuples of so many indexes below many, in the order of choices."""
+    rows = [()]
+    for step in range(length):
+        rows = [(*row, at) for row in rows for at in range(many) if not row or at > row[-1]]
+    return rows

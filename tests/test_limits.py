@@ -1,0 +1,100 @@
+"""The limits: houses of 7 nodes with 16 facts ([15]: 5 nodes, [17]: 8 facts) are answered in a moment, and some beyond."""
+
+import unittest
+from time import perf_counter
+
+from anything import all_facts
+from looking import FULL, drawn
+from whatopened.asking import alike, alone, follows, one_of, one_paper, paper, parted, table, verdict
+from whatopened.counts import how_many, number_of, tree_number
+from whatopened.errors import Unfit
+from whatopened.facts import Facts
+from whatopened.fitting import is_topless, topless, tree_for
+from whatopened.houses import House
+from whatopened.quarrels import fewest_back, needless, quarrels
+
+MOMENT = 3
+FOLDERS = "abcdefg"
+HOUSE = House(list(FOLDERS))
+ORDER = [("below", one, other) for at, one in enumerate(FOLDERS) for other in FOLDERS[at + 1:]]
+RING = [("below", one, FOLDERS[at - 1]) for at, one in enumerate(FOLDERS)]
+LINES = [("line", one, other) for at, one in enumerate(FOLDERS) for other in FOLDERS[at + 1:]]
+NOTS = [("not", one, other) for one in FOLDERS for other in FOLDERS if one != other]
+BOTH_WAYS = [fact for word, one, other in ORDER for fact in ((word, one, other), (word, other, one))]
+LISTS = [
+    [], ORDER[:16], RING + LINES[:9], LINES[:16], NOTS[:16], NOTS[::-2][:16], BOTH_WAYS[:16], RING[:6] + NOTS[::4][:10],
+    [*LINES[:6], *NOTS[::4][:10]], [*ORDER[:8], *BOTH_WAYS[-8:]],
+]
+
+
+class InAMoment(unittest.TestCase):
+    def moment(self, call, *parts):
+        """What the call tells, in a moment; None if no tree fits."""
+        before = perf_counter()
+        try:
+            told = call(*parts)
+        except Unfit:
+            told = None
+        self.assertLess(perf_counter() - before, MOMENT, call.__name__)
+        return told
+
+    def lists(self, most):
+        """Houses of seven nodes and lists of facts about them."""
+        drawn_ones = [(house, rows) for house in FULL for rows in drawn(house, 81, 12, most)]
+        return [(HOUSE, rows[:most]) for rows in LISTS] + drawn_ones
+
+    def test_what_fits(self):
+        for house, rows in self.lists(16):
+            facts = Facts(house, rows)
+            self.moment(tree_for, facts)
+            self.moment(topless, facts)
+            self.moment(is_topless, facts, house.nodes)
+
+    def test_what_is_asked(self):
+        for house, rows in self.lists(16):
+            facts = Facts(house, rows)
+            pairs = [(house.nodes[-1], house.folders[0]), (house.folders[0], house.folders[1])] * 3
+            for call in (verdict, paper):
+                self.moment(call, facts, all_facts(house)[-1])
+            for call in (one_of, one_paper):
+                self.moment(call, facts, pairs)
+            for call in (table, alone, needless):
+                self.moment(call, facts)
+
+    def test_what_follows(self):
+        lists = [Facts(HOUSE, rows) for rows in LISTS]
+        for facts in lists:
+            for more in lists:
+                self.moment(follows, facts, more)
+                self.moment(parted, facts, more)
+                self.moment(alike, facts, more)
+
+    def test_trees_counted(self):
+        house = House(list(FOLDERS[:5]))
+        for rows in LISTS:
+            rows = [row for row in rows if row[1] in house and row[2] in house]
+            facts = Facts(house, rows)
+            many = self.moment(how_many, facts)
+            if many > 0:
+                last = self.moment(tree_number, facts, many - 1)
+                self.assertEqual(self.moment(number_of, facts, last), many - 1)
+
+    def test_trees_of_seven_nodes_counted(self):
+        facts = Facts(HOUSE)
+        self.assertEqual(self.moment(how_many, facts), 8 ** 6)
+        last = self.moment(tree_number, facts, 8 ** 6 - 1)
+        self.assertEqual(self.moment(number_of, facts, last), 8 ** 6 - 1)
+
+    def test_which_facts_quarrel(self):
+        for house, rows in self.lists(8):
+            self.moment(quarrels, Facts(house, rows))
+            self.moment(fewest_back, Facts(house, rows))
+
+    def test_which_of_some_more_facts_quarrel(self):
+        for rows in LISTS:
+            self.moment(quarrels, Facts(HOUSE, rows[:11]))
+            self.moment(fewest_back, Facts(HOUSE, rows[:11]))
+
+
+if __name__ == "__main__":
+    unittest.main()
