@@ -5,6 +5,7 @@ from itertools import product
 from whatopened.errors import BadHouse, UnlikeHouses
 from whatopened.facts import Facts
 from whatopened.houses import House
+from whatopened.stories import Story
 from whatopened.trees import Tree
 
 ODD_STRINGS = ("", "A", "aB", "a1", "a b", "a_", "abcdefghi", "z" * 400, " a", "a\n", "~", "\t")
@@ -13,7 +14,7 @@ ODD_STRINGS = ("", "A", "aB", "a1", "a b", "a_", "abcdefghi", "z" * 400, " a", "
 def package_objects():
     """Objects of the package that no test's house has as a node."""
     house = House(["q"])
-    return [house, Tree(house, {}), Facts(house), BadHouse(1), UnlikeHouses()]
+    return [house, Tree(house, {}), Facts(house), Story(house), BadHouse(1), UnlikeHouses()]
 
 
 def any_objects():
@@ -24,7 +25,7 @@ def any_objects():
 
 def any_keys():
     """Those of any_objects() that can be keys of a dict."""
-    kinds = (list, dict, House, Tree, Facts)
+    kinds = (list, dict, House, Tree, Facts, Story)
     return [thing for thing in any_objects() if not isinstance(thing, kinds)] + [("a",), ((), 1)]
 
 

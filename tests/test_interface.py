@@ -7,6 +7,7 @@ from importlib import import_module
 
 from whatopened.facts import Facts
 from whatopened.houses import House
+from whatopened.stories import Story
 from whatopened.trees import Tree
 
 METHODS = {
@@ -20,8 +21,14 @@ METHODS = {
         "__init__": ("house", "facts"), "told": (), "without": ("indexes",), "__add__": None, "__len__": None,
         "__contains__": None, "__iter__": None, "__eq__": None,
     },
+    Story: {
+        "__init__": ("house",), "done": ("deed",), "facts": (), "deeds": (), "links": (), "link": ("name",),
+        "place": ("thing",), "__eq__": None,
+    },
 }
-PLACES = {House: "whatopened.houses", Tree: "whatopened.trees", Facts: "whatopened.facts"}
+PLACES = {
+    House: "whatopened.houses", Tree: "whatopened.trees", Facts: "whatopened.facts", Story: "whatopened.stories",
+}
 FUNCTIONS = {
     "whatopened.facts": {"against": ("house", "fact")},
     "whatopened.fitting": {"tree_for": ("facts",), "topless": ("facts",), "is_topless": ("facts", "nodes")},
@@ -32,6 +39,19 @@ FUNCTIONS = {
     },
     "whatopened.counts": {"how_many": ("facts",), "tree_number": ("facts", "k"), "number_of": ("facts", "tree")},
     "whatopened.quarrels": {"needless": ("facts",), "quarrels": ("facts",), "fewest_back": ("facts",)},
+    "whatopened.trials": {
+        "settles": ("facts", "fact", "pair"), "fewest_asked": ("facts", "fact", "pairs"),
+        "plan": ("facts", "fact", "pairs"), "is_plan": ("facts", "fact", "pairs", "thing"),
+    },
+    "whatopened.wishes": {
+        "places": ("facts", "wanted", "barred"), "covers": ("facts", "wanted", "barred"),
+        "as_much": ("facts", "some", "others"),
+    },
+    "whatopened.rights": {
+        "can": ("story", "person", "verb", "thing", "day"), "why_can": ("story", "person", "verb", "thing", "day"),
+        "who": ("story", "verb", "thing", "day"), "copied": ("story", "name", "thing"),
+        "unlike": ("story", "name", "thing"),
+    },
 }
 EXAMPLE = """
 >>> from whatopened.houses import House
@@ -80,7 +100,7 @@ class TheInterface(unittest.TestCase):
     def test_attributes_are_set_when_an_object_is_created(self):
         house = House(["a"], ["t"])
         for thing, names in ((house, ("folders", "things", "nodes")), (Tree(house, {}), ("house",)),
-                             (Facts(house), ("house",))):
+                             (Facts(house), ("house",)), (Story(house), ("house",))):
             for name in names:
                 self.assertIn(name, vars(thing))
 

@@ -1,4 +1,4 @@
-"""The limits: houses of 7 nodes with 16 facts ([15]: 5 nodes, [17]: 8 facts) are answered in a moment, and some beyond."""
+"""The limits, and some beyond: houses of 7 nodes with 16 facts ([15]: 5 nodes, [17]: 8 facts) are answered in a moment."""
 
 import unittest
 from time import perf_counter
@@ -12,6 +12,11 @@ from whatopened.facts import Facts
 from whatopened.fitting import is_topless, topless, tree_for
 from whatopened.houses import House
 from whatopened.quarrels import fewest_back, needless, quarrels
+from whatopened.rights import can, copied, unlike, who, why_can
+from whatopened.stories import Story
+from whatopened.trials import fewest_asked, is_plan, plan, settles
+from whatopened.wishes import as_much, covers, places
+from worlds import PERSONS, VERBS, told_story
 
 MOMENT = 3
 FOLDERS = "abcdefg"
@@ -27,7 +32,7 @@ LISTS = [
 ]
 
 
-class InAMoment(unittest.TestCase):
+class Timed(unittest.TestCase):
     def moment(self, call, *parts):
         """What the call tells, in a moment; None if no tree fits."""
         before = perf_counter()
@@ -38,6 +43,8 @@ class InAMoment(unittest.TestCase):
         self.assertLess(perf_counter() - before, MOMENT, call.__name__)
         return told
 
+
+class InAMoment(Timed):
     def lists(self, most):
         """Houses of seven nodes and lists of facts about them."""
         drawn_ones = [(house, rows) for house in FULL for rows in drawn(house, 81, 12, most)]
@@ -94,6 +101,62 @@ class InAMoment(unittest.TestCase):
         for rows in LISTS:
             self.moment(quarrels, Facts(HOUSE, rows[:11]))
             self.moment(fewest_back, Facts(HOUSE, rows[:11]))
+
+    def test_trials(self):
+        for folders, things in (("abcde", ""), ("abc", "tu"), ("abcdefg", "")):
+            house = House(list(folders), list(things))
+            pairs = [(house.nodes[-1], "a"), ("a", "b"), ("b", "a"), ("c", "b"), ("b", "c")]
+            for rows in [[row for row in rows if row[1] in house and row[2] in house] for rows in LISTS]:
+                facts = Facts(house, rows)
+                for fact in [("line", "a", "b"), ("below", house.nodes[-1], "b"), ("not", "b", "a"), ("below", "a", "c")]:
+                    self.moment(settles, facts, fact, pairs[0])
+                    self.moment(fewest_asked, facts, fact, pairs)
+                    self.moment(is_plan, facts, fact, pairs, self.moment(plan, facts, fact, pairs))
+
+    def test_wishes(self):
+        for house, rows in self.lists(16):
+            facts = Facts(house, rows)
+            self.moment(places, facts, house.nodes, [])
+            self.moment(covers, facts, house.nodes[1:], [])
+            self.moment(covers, facts, house.nodes[-2:], house.nodes[:1])
+            self.moment(as_much, facts, house.folders[:4], house.folders[3:])
+
+
+def far_story(house, seed):
+    """The story of 12 links and 30 deeds or so that comes out in a drawn tree of the house."""
+    story = Story(house)
+    deeds, over = told_story(house, seed, 40)
+    for deed in deeds:
+        story = story.done(deed)
+    return story
+
+
+class StoriesInAMoment(Timed):
+    def stories(self):
+        return [far_story(house, seed) for house in (FULL[1], FULL[2]) for seed in range(5)]
+
+    def test_many_deeds(self):
+        for house in FULL:
+            for seed in range(5):
+                self.moment(far_story, house, seed)
+
+    def test_a_long_chain_of_links(self):
+        house, names = FULL[2], [first + second for first in "klmno" for second in "klmno"]
+        story = Story(house).done(("link", names[0], "ann", "a", VERBS, None))
+        for maker, name in zip(names, names[1:]):
+            story = self.moment(story.done, ("narrow", name, maker, "ann", "a", VERBS, None))
+        self.assertEqual(self.moment(can, story, "ann", "read", "t", 0), "open")
+        self.assertEqual(self.moment(story.done, ("withdraw", "kk")).links(), [])
+
+    def test_who_can(self):
+        for story in self.stories():
+            for thing in story.house.things:
+                self.moment(who, story, "read", thing, 0)
+                for person in PERSONS:
+                    self.moment(why_can, story, person, "read", thing, 0)
+                for name in story.links():
+                    self.moment(copied, story, name, thing)
+                    self.moment(unlike, story, name, thing)
 
 
 if __name__ == "__main__":

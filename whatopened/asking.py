@@ -37,14 +37,20 @@ def sides_of_fact(facts, fact):
     return sides(facts, [fact])
 
 
-def sides_of_pairs(facts, pairs):
-    """The sides for the belows of pairs; BadPair, then Unfit."""
+def belows(house, pairs):
+    """The facts that pairs ask for: of each one that its node lies below its folder; BadPair."""
     if not is_list(pairs):
         raise BadPair(0)
     rows = [("below", *pair) if is_list(pair) else None for pair in pairs]
-    at = wrong_fact(facts.house, rows)
+    at = wrong_fact(house, rows)
     if at is not None:
         raise BadPair(at)
+    return rows
+
+
+def sides_of_pairs(facts, pairs):
+    """The sides for the belows of pairs; BadPair, then Unfit."""
+    rows = belows(facts.house, pairs)
     must_fit(facts)
     return sides(facts, rows)
 

@@ -1,6 +1,6 @@
 """Houses: the folders and the things of a tree that nobody shows."""
 
-from whatopened.errors import BadHouse
+from whatopened.errors import BadHouse, NoFolder, NoNode, NoThing
 from whatopened.kinds import is_list, is_name
 
 
@@ -45,3 +45,21 @@ class House:
 
     def __eq__(self, other):
         return isinstance(other, House) and self.folders == other.folders and self.things == other.things
+
+
+def must_be_node(house, thing):
+    """Raises NoNode for any object that is no node."""
+    if thing not in house:
+        raise NoNode(thing)
+
+
+def must_be_folder(house, thing):
+    """Raises NoFolder for any object that is no folder."""
+    if thing not in house.folders:
+        raise NoFolder(thing)
+
+
+def must_be_thing(house, thing):
+    """Raises NoThing for any object that is no thing of the house."""
+    if thing not in house.things:
+        raise NoThing(thing)

@@ -1,7 +1,8 @@
 """Trees: how the nodes of a house could lie."""
 
-from whatopened.errors import BadFact, NoFolder, NoNode, Ringed, UnlikeHouses
+from whatopened.errors import BadFact, Ringed, UnlikeHouses
 from whatopened.facts import is_fact
+from whatopened.houses import must_be_folder, must_be_node
 
 
 def ring(house, lying):
@@ -21,11 +22,9 @@ class Tree:
 
     def __init__(self, house, over):
         for node in over:
-            if node not in house:
-                raise NoNode(node)
+            must_be_node(house, node)
         for folder in over.values():
-            if folder not in house.folders:
-                raise NoFolder(folder)
+            must_be_folder(house, folder)
         lying = {node: over.get(node) for node in house.nodes}
         folders = ring(house, lying)
         if folders is not None:
@@ -35,8 +34,7 @@ class Tree:
 
     def over(self, node):
         """The folder in which a node lies directly, or None."""
-        if node not in self.house:
-            raise NoNode(node)
+        must_be_node(self.house, node)
         return self.lying[node]
 
     def above(self, node):
@@ -50,21 +48,18 @@ class Tree:
 
     def below(self, folder):
         """The tuple of all nodes below a folder, in the order of nodes."""
-        if folder not in self.house.folders:
-            raise NoFolder(folder)
+        must_be_folder(self.house, folder)
         return tuple([node for node in self.house.nodes if folder in self.above(node)])
 
     def lies(self, node, folder):
         """Whether a node lies below a folder, at whatever depth."""
         folders = self.above(node)
-        if folder not in self.house.folders:
-            raise NoFolder(folder)
+        must_be_folder(self.house, folder)
         return folder in folders
 
     def moved(self, node, folder):
         """The tree in which a node, with all below it, lies directly in a folder, or at the very top."""
-        if node not in self.house:
-            raise NoNode(node)
+        must_be_node(self.house, node)
         over = {one: self.lying[one] for one in self.house.nodes if one != node and self.lying[one] is not None}
         if folder is not None:
             over[node] = folder
