@@ -2,6 +2,7 @@
 
 from itertools import product
 
+from whatopened.desks import Desk
 from whatopened.errors import BadHouse, UnlikeHouses
 from whatopened.facts import Facts
 from whatopened.houses import House
@@ -14,7 +15,7 @@ ODD_STRINGS = ("", "A", "aB", "a1", "a b", "a_", "abcdefghi", "z" * 400, " a", "
 def package_objects():
     """Objects of the package that no test's house has as a node."""
     house = House(["q"])
-    return [house, Tree(house, {}), Facts(house), Story(house), BadHouse(1), UnlikeHouses()]
+    return [house, Tree(house, {}), Facts(house), Story(house), Desk(Story(house)), BadHouse(1), UnlikeHouses()]
 
 
 def any_objects():
@@ -45,6 +46,22 @@ def no_facts(house):
     ]
     for thing in any_objects():
         wrong += [(thing, "t", "a"), ("below", thing, "a"), ["not", "t", thing], ("line", thing, "t")]
+    return wrong
+
+
+def no_wishes(house):
+    """Objects that are no wishes in a story of a house with folders a, b, c and things t, u, without a node x."""
+    good = ("bob", "read", "t", 3)
+    wrong = [
+        *any_objects(), good[:3], (*good, None), good[::-1], ("bob", "read", "a", 3), ("bob", "read", "x", 3),
+        ("Bob", "read", "t", 3), ("bob", "", "t", 3), ("bob", "read", "t", None), ("bob", "read", "t", True),
+        ("bob", "read", "t", "3"), "bobr", {"bob": 1, "read": 2, "t": 3, "x": 4}, House(["bob", "read", "t", "x"]), [good],
+        ("bob", ("read",), "t", 3), Facts(house, [("below", "t", folder) for folder in "abc"] + [("line", "a", "b")]),
+    ]
+    for thing in any_objects():
+        wrong += [(thing, *good[1:]), ["bob", thing, "t", 3], ("bob", "read", thing, 3)]
+        if isinstance(thing, bool) or not isinstance(thing, int):
+            wrong.append((*good[:3], thing))
     return wrong
 
 

@@ -7,16 +7,20 @@ from anything import all_facts
 from looking import FULL, drawn
 from whatopened.asking import alike, alone, follows, one_of, one_paper, paper, parted, table, verdict
 from whatopened.counts import how_many, number_of, tree_number
+from whatopened.desks import Desk
 from whatopened.errors import Unfit
 from whatopened.facts import Facts
 from whatopened.fitting import is_topless, topless, tree_for
 from whatopened.houses import House
+from whatopened.moves import gains, harmless
 from whatopened.quarrels import fewest_back, needless, quarrels
 from whatopened.rights import can, copied, unlike, who, why_can
+from whatopened.stops import lost, stops
 from whatopened.stories import Story
+from whatopened.texts import read, written
 from whatopened.trials import fewest_asked, is_plan, plan, settles
 from whatopened.wishes import as_much, covers, places
-from worlds import PERSONS, VERBS, told_story
+from worlds import PERSONS, VERBS, story_of, told_story
 
 MOMENT = 3
 FOLDERS = "abcdefg"
@@ -124,11 +128,8 @@ class InAMoment(Timed):
 
 def far_story(house, seed):
     """The story of 12 links and 30 deeds or so that comes out in a drawn tree of the house."""
-    story = Story(house)
     deeds, over = told_story(house, seed, 40)
-    for deed in deeds:
-        story = story.done(deed)
-    return story
+    return story_of(house, deeds)
 
 
 class StoriesInAMoment(Timed):
@@ -157,6 +158,43 @@ class StoriesInAMoment(Timed):
                 for name in story.links():
                     self.moment(copied, story, name, thing)
                     self.moment(unlike, story, name, thing)
+
+    def test_moves(self):
+        for story in self.stories():
+            self.moment(harmless, story, 0)
+            for thing in story.house.things:
+                for folder in story.house.folders:
+                    self.moment(gains, story, thing, folder, 0)
+
+    def test_withdrawals(self):
+        # Eight links of which all must go, and some more.
+        for many in (8, 9):
+            for house in (FULL[1], House(list("abcdef"), ["t"])):
+                deeds = [("link", name, "ann", house.folders[at % 4], ["x"], None) for at, name in enumerate("klmnopqrs"[:many])]
+                deeds += [("tried", "k", "x", "t", 0, True)]
+                story = story_of(house, deeds)
+                self.assertEqual(self.moment(lost, story, story.links()), story.links())
+                self.assertEqual(len(self.moment(stops, story, ("ann", "x", "t", 0), [])[0]), many)
+                kept = [("ann", "x", "t", day) for day in range(8)]
+                self.assertEqual(self.moment(stops, story, ("bob", "x", "t", 0), kept), [()])
+                self.assertEqual(self.moment(stops, story, ("ann", "x", "t", 8), kept), [])
+
+    def test_desks(self):
+        for house in FULL[1:]:
+            deeds, over = told_story(house, 7, 30)
+            desk = Desk(Story(house))
+            for at, person in enumerate(PERSONS):
+                desk.watch("abc"[at], (person, "x", house.things[at], 0))
+            for deed in deeds:
+                self.moment(desk.do, deed)
+            for deed in deeds:
+                self.moment(desk.undo)
+            self.moment(desk.would, deeds)
+
+    def test_texts(self):
+        facts = Facts(HOUSE, BOTH_WAYS)
+        self.assertEqual(self.moment(read, self.moment(written, facts)), facts)
+        self.assertGreater(len(written(facts)), 400)
 
 
 if __name__ == "__main__":

@@ -4,50 +4,18 @@ import unittest
 from itertools import product
 
 from anything import any_objects
-from looking import LARGER, SMALL, Looking
+from looking import LARGER
 from whatopened.errors import BadDay, BadName, NoLink, NoThing
 from whatopened.houses import House
 from whatopened.rights import can, copied, unlike, who, why_can
 from whatopened.stories import Story
-from worlds import PERSONS, VERBS, told_story, word_of, worlds_of
+from worlds import PERSONS, VERBS, InWorlds, snapshot, story_of, told_story, word_of, worlds_of
 
 HOUSE = House(["b", "a", "c"], ["u", "t"])
 NO_DAYS = [thing for thing in any_objects() if isinstance(thing, bool) or not isinstance(thing, int)]
 
 
-def story_of(house, deeds):
-    story = Story(house)
-    for deed in deeds:
-        story = story.done(deed)
-    return story
-
-
-def snapshot(story):
-    return (story.deeds(), story.links(), story.facts(), [story.link(name) for name in story.links()])
-
-
-class Rights(Looking):
-    def drawn_stories(self, start, many, length):
-        """Stories that happen in small houses with things, and the worlds and trees in which they happen so."""
-        for house in (*SMALL[1:], LARGER[0]):
-            if house.things:
-                for seed in range(start, start + many):
-                    deeds, over = told_story(house, seed, length)
-                    yield story_of(house, deeds), deeds, worlds_of(house, deeds)
-
-    def first_of(self, call, story, choices):
-        """Of all that is wrong at once the error of the first argument is raised, and the story stays as it is."""
-        before = snapshot(story)
-        for row in product(*choices):
-            wrong = [(kind, attribute, thing) for thing, kind, attribute in row if kind]
-            if wrong:
-                self.raised(*wrong[0], call, story, *[thing for thing, kind, attribute in row])
-            else:
-                call(story, *[thing for thing, kind, attribute in row])
-        self.assertEqual(snapshot(story), before)
-
-
-class WhoCan(Rights):
+class WhoCan(InWorlds):
     BASE = [
         ("link", "k", "ann", "a", ["read", "send"], 5), ("narrow", "l", "k", "bob", "b", ["read"], 3),
         ("tried", "l", "read", "t", 3, True), ("link", "m", "cy", "c", ["read"], None),
@@ -212,7 +180,7 @@ class WhoCan(Rights):
             self.raised(BadDay, "day", thing, who, story, "read", "t", thing)
 
 
-class AllWhoHold(Rights):
+class AllWhoHold(InWorlds):
     def test_all_persons_ascending(self):
         story = story_of(HOUSE, WhoCan.BASE)
         told = who(story, "read", "t", 3)
@@ -245,7 +213,7 @@ class AllWhoHold(Rights):
                     self.assertEqual(told[person], word_of([world.can(person, verb, thing, 3) for world, over in worlds]))
 
 
-class WhatCopiesKeep(Rights):
+class WhatCopiesKeep(InWorlds):
     def kept(self, story, worlds, name, thing):
         """The verdicts of the copy beside all worlds; these."""
         copies = [thing in world.links[name]["kept"] for world, over in worlds]

@@ -12,18 +12,10 @@ from whatopened.facts import Facts
 from whatopened.houses import House
 from whatopened.stories import Story
 from whatopened.trees import Tree
-from worlds import told_story, worlds_of
+from worlds import snapshot, story_of, told_story, worlds_of
 
 HOUSE = House(["b", "a", "c"], ["u", "t"])
 NOT_NAMES = [*any_objects(), ("a",), "Ann", "read ", "a-b"]
-
-
-def story_of(house, deeds):
-    """The story behind so many deeds."""
-    story = Story(house)
-    for deed in deeds:
-        story = story.done(deed)
-    return story
 
 
 def as_told(deed):
@@ -51,9 +43,9 @@ class Stories(Looking):
 
     def refused(self, kind, attribute, thing, story, deed):
         """The deed raises just this error, and the story stays as it is."""
-        before = (story.deeds(), story.links(), story.facts(), [story.link(name) for name in story.links()])
+        before = snapshot(story)
         self.raised(kind, attribute, thing, story.done, deed)
-        self.assertEqual((story.deeds(), story.links(), story.facts(), [story.link(name) for name in story.links()]), before)
+        self.assertEqual(snapshot(story), before)
 
     def quarrels(self, story, deed, fact):
         """The deed raises Quarrel with a topless group of the facts and the one that it tells; () if it tells none."""
@@ -585,41 +577,11 @@ class StoriesThatHappenInATree(Stories):
                                 story.done(deed)
         self.assertGreater(refused, 60)
 
-    def test_under_other_names(self):
-        house = House(["b", "a", "c"], ["u", "t"])
-        nodes = dict(zip(house.nodes, ("v", "b", "t", "a", "u")))
-        other = House([nodes[node] for node in house.folders], [nodes[node] for node in house.things])
-        words = {"ann": "zoe", "bob": "ann", "cy": "bob", "read": "x", "send": "a", "x": "read"}
-        for seed in range(300, 310):
-            deeds, over = told_story(house, seed, 24)
-            story, same = story_of(house, deeds), story_of(other, [renamed(deed, nodes, words) for deed in deeds])
-            facts = [(word, nodes[one], nodes[to]) for word, one, to in story.facts().told()]
-            self.assertEqual(same.facts().told(), facts)
-            self.assertEqual(same.links(), story.links())
-            for name in story.links():
-                person, folder, verbs, last, maker = story.link(name)
-                verbs = tuple(sorted([words[verb] for verb in verbs]))
-                self.assertEqual(same.link(name), (words[person], nodes[folder], verbs, last, maker))
-
     def test_facts_are_about_the_house(self):
         for house in LARGER:
             deeds, over = told_story(house, 400, 30)
             for fact in story_of(house, deeds).facts():
                 self.assertIn(fact, all_facts(house))
-
-
-def renamed(deed, nodes, words):
-    """The deed under other names of nodes, persons and verbs; names of links, days and answers stay."""
-    word, name, *things = deed
-    if word == "move":
-        return (word, nodes[name], nodes[things[0]])
-    names = {**nodes, **words}
-    if word == "tried":
-        return (word, name, words[things[0]], nodes[things[1]], *things[2:])
-    if word == "narrow":
-        return (word, name, things[0], *renamed(("link", name, *things[1:]), nodes, words)[2:])
-    return (word, name, *[[words[verb] for verb in thing] if isinstance(thing, (list, tuple))
-                          else names.get(thing, thing) for thing in things])
 
 
 if __name__ == "__main__":

@@ -1,9 +1,11 @@
 """A house as it is in one tree: the tests let a story happen there, deed by deed, and look at what comes of it."""
 
+from itertools import product
 from random import Random
 
 from anything import all_overs, way_up
-from looking import drawn_over
+from looking import LARGER, SMALL, Looking, drawn_over
+from whatopened.stories import Story
 
 PERSONS = ("ann", "bob", "cy")
 VERBS = ("read", "send", "x")
@@ -173,3 +175,40 @@ def told_story(house, seed, many):
     """So many deeds that come out in a drawn tree, and this tree as a dict."""
     teller = Teller(house, seed)
     return teller.deeds(many), teller.over
+
+
+def story_of(house, deeds):
+    """The story behind so many deeds."""
+    story = Story(house)
+    for deed in deeds:
+        story = story.done(deed)
+    return story
+
+
+def snapshot(story):
+    """All that a story tells."""
+    links = [story.link(name) for name in story.links()]
+    return (story.deeds(), story.links(), links, story.facts(), [story.place(thing) for thing in story.house.things])
+
+
+class InWorlds(Looking):
+    """Tests that look at drawn stories beside all worlds in which they happen so."""
+
+    def drawn_stories(self, start, many, length):
+        """Stories that happen in small houses with things, and the worlds and trees in which they happen so."""
+        for house in (*SMALL[1:], LARGER[0]):
+            if house.things:
+                for seed in range(start, start + many):
+                    deeds, over = told_story(house, seed, length)
+                    yield story_of(house, deeds), deeds, worlds_of(house, deeds)
+
+    def first_of(self, call, story, choices):
+        """Of all that is wrong at once the error of the first argument is raised, and the story stays as it is."""
+        before = snapshot(story)
+        for row in product(*choices):
+            wrong = [(kind, attribute, thing) for thing, kind, attribute in row if kind]
+            if wrong:
+                self.raised(*wrong[0], call, story, *[thing for thing, kind, attribute in row])
+            else:
+                call(story, *[thing for thing, kind, attribute in row])
+        self.assertEqual(snapshot(story), before)

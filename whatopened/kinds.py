@@ -1,4 +1,4 @@
-"""What the document names for all files: lists, integers, names, the order of choices."""
+"""What the document names for all files: lists, integers, names, the order of choices, the fewest of them."""
 
 LETTERS = "abcdefghijklmnopqrstuvwxyz"
 LONGEST = 8
@@ -27,3 +27,16 @@ def choices(many, length):
     for step in range(length):
         rows = [(*row, at) for row in rows for at in range(many) if not row or at > row[-1]]
     return rows
+
+
+def fewest(things, will_do):
+    """All tuples of as few of the things as will do, in the order of choices; [] if none will.
+
+    will_do is a function that tells of a tuple whether it will.
+    """
+    for many in range(len(things) + 1):
+        rows = [tuple([things[at] for at in indexes]) for indexes in choices(len(things), many)]
+        found = [row for row in rows if will_do(row)]
+        if found:
+            return found
+    return []

@@ -3,7 +3,7 @@
 from whatopened.asking import follows
 from whatopened.facts import Facts
 from whatopened.fitting import must_fit, topless
-from whatopened.kinds import choices
+from whatopened.kinds import choices, fewest
 
 
 def needless(facts):
@@ -39,9 +39,4 @@ def quarrels(facts):
 
 def fewest_back(facts):
     """All tuples of as few indexes as possible without whose facts some tree fits."""
-    found = []
-    many = 0
-    while not found:
-        found = [indexes for indexes in choices(len(facts), many) if topless(facts.without(indexes)) is None]
-        many += 1
-    return found
+    return fewest(list(range(len(facts))), lambda indexes: topless(facts.without(indexes)) is None)

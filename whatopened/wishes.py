@@ -3,7 +3,7 @@
 from whatopened.asking import sides
 from whatopened.fitting import must_fit, topless
 from whatopened.houses import must_be_folder, must_be_node
-from whatopened.kinds import choices
+from whatopened.kinds import fewest
 
 
 def is_below(facts, node, folders):
@@ -39,12 +39,7 @@ def places(facts, wanted, barred):
 def covers(facts, wanted, barred):
     """All tuples of as few folders as possible such that each wanted node surely lies below one, no barred one does."""
     free = free_folders(facts, wanted, barred)
-    for many in range(len(free) + 1):
-        rows = [tuple([free[at] for at in indexes]) for indexes in choices(len(free), many)]
-        found = [folders for folders in rows if are_covered(facts, wanted, folders)]
-        if found:
-            return found
-    return []
+    return fewest(free, lambda folders: are_covered(facts, wanted, folders))
 
 
 def as_much(facts, some, others):
